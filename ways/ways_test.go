@@ -22,6 +22,7 @@ func layers() map[string]string {
 		"scope": "range-function label map embedding promoted",
 		"value": "map closure range-string label fallthrough struct-compared",
 		"heap":  "range-function label map embedding promoted variadic",
+		"walk":  "range-function label defer recover type-switch map copy iota embedding promoted fallthrough",
 	}
 }
 
@@ -101,6 +102,14 @@ func (l looker) look(n ast.Node) bool {
 		l.found["map"] = true
 	case *ast.FuncLit:
 		l.found["closure"] = true
+	case *ast.DeferStmt:
+		l.found["defer"] = true
+	case *ast.TypeSwitchStmt:
+		l.found["type-switch"] = true
+	case *ast.Ident:
+		if n.Name == "iota" {
+			l.found["iota"] = true
+		}
 	case *ast.Ellipsis:
 		l.found["variadic"] = true
 	case *ast.BranchStmt:
