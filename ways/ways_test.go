@@ -23,6 +23,7 @@ func layers() map[string]string {
 		"value": "map closure range-string label fallthrough struct-compared",
 		"heap":  "range-function label map embedding promoted variadic",
 		"walk":  "range-function label defer recover type-switch map copy iota embedding promoted fallthrough",
+		"code":  "range-function label map variadic closure",
 	}
 }
 
