@@ -24,6 +24,7 @@ func layers() map[string]string {
 		"heap":  "range-function label map embedding promoted variadic",
 		"walk":  "range-function label defer recover type-switch map copy iota embedding promoted fallthrough",
 		"code":  "range-function label map variadic closure",
+		"lower": "range-function label variadic closure map method-value",
 	}
 }
 
