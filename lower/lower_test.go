@@ -7,46 +7,24 @@ import (
 
 	"gumshoe/api"
 	"gumshoe/code"
-	"gumshoe/jlex"
-	"gumshoe/jread"
-	"gumshoe/jtree"
 	"gumshoe/lower"
+	"gumshoe/samples"
 	"gumshoe/scope"
 )
-
-// program is a text's tree.
-func program(t *testing.T, text string) api.Node {
-	t.Helper()
-	l, line, e := jlex.Lex(text)
-	if e != api.OK {
-		t.Fatalf("%.80s: Lex tells %d at %d", text, e, line)
-	}
-	p, line, e := jread.Parse(l)
-	if e != api.OK {
-		t.Fatalf("%.80s: Parse tells %d at %d", text, e, line)
-	}
-	return p
-}
-
-// shown is the beginning of a program's text.
-func shown(p api.Node) string {
-	s, _ := jtree.Show(p)
-	return fmt.Sprintf("%.600s", s)
-}
 
 // lowered is a program that is to have a code: its functions are Resolve's, the code is right, with as many procs.
 func lowered(t *testing.T, p api.Node) ([]api.Fun, []api.Proc) {
 	t.Helper()
 	funs, l, line, e := lower.Lower(p)
 	if line != 0 || e != api.OK {
-		t.Fatalf("%s: Lower tells %d at %d", shown(p), e, line)
+		t.Fatalf("%s: Lower tells %d at %d", samples.Shown(p), e, line)
 	}
 	want, _, _, _ := scope.Resolve(p)
 	if fmt.Sprint(funs) != fmt.Sprint(want) {
-		t.Fatalf("%s: functions %.300v, not %.300v", shown(p), funs, want)
+		t.Fatalf("%s: functions %.300v, not %.300v", samples.Shown(p), funs, want)
 	}
 	if !code.Right(l) || len(l) != len(funs) {
-		t.Fatalf("%s: no right code: %d procs of %d functions", shown(p), len(l), len(funs))
+		t.Fatalf("%s: no right code: %d procs of %d functions", samples.Shown(p), len(l), len(funs))
 	}
 	return funs, l
 }
@@ -56,23 +34,23 @@ func refused(t *testing.T, p api.Node, line int, e api.Errno) {
 	t.Helper()
 	funs, l, gotLine, got := lower.Lower(p)
 	if gotLine != line || got != e {
-		t.Errorf("%s: Lower tells %d at %d, not %d at %d", shown(p), got, gotLine, e, line)
+		t.Errorf("%s: Lower tells %d at %d, not %d at %d", samples.Shown(p), got, gotLine, e, line)
 	}
 	if len(funs) != 0 || len(l) != 0 {
-		t.Errorf("%s: %d functions and %d procs beside an error", shown(p), len(funs), len(l))
+		t.Errorf("%s: %d functions and %d procs beside an error", samples.Shown(p), len(funs), len(l))
 	}
 }
 
 // The chapter's example, and what the code of nothing must have.
 func TestExamples(t *testing.T) {
-	_, l := lowered(t, program(t, "function f() { return {} } f()"))
+	_, l := lowered(t, samples.Read("function f() { return {} } f()"))
 	marks := code.Marks(l)
 	slices.Sort(marks)
 	if !slices.Equal(marks, []int{6, 7}) {
 		t.Error(marks)
 	}
 	for _, s := range []string{"", "{ { } }", "var a", ";"} {
-		if _, l := lowered(t, program(t, s)); len(l) != 1 || len(code.Marks(l)) != 0 {
+		if _, l := lowered(t, samples.Read(s)); len(l) != 1 || len(code.Marks(l)) != 0 {
 			t.Error(s, l)
 		}
 	}
@@ -85,17 +63,17 @@ func TestResolveErrors(t *testing.T) {
 	refused(t, api.Node{Op: api.SBlock, N: 1, Line: 3}, 0, api.ErrTree)
 	refused(t, node(api.SBlock, "", node(api.XNull, "")), 0, api.ErrTree)
 	refused(t, node(api.SBlock, "", node(api.SExpr, "", node(api.XBin, "/", node(api.XNull, ""), node(api.XNull, "")))), 0, api.ErrTree)
-	refused(t, program(t, "var a;\na;\nb"), 3, api.ErrName)
-	refused(t, program(t, "var a;\n\nbreak"), 3, api.ErrJump)
-	refused(t, program(t, "while (true) {\ncontinue }\nreturn"), 3, api.ErrJump)
-	refused(t, program(t, "while (true) {\nfunction f() {\ncontinue }}"), 3, api.ErrJump)
+	refused(t, samples.Read("var a;\na;\nb"), 3, api.ErrName)
+	refused(t, samples.Read("var a;\n\nbreak"), 3, api.ErrJump)
+	refused(t, samples.Read("while (true) {\ncontinue }\nreturn"), 3, api.ErrJump)
+	refused(t, samples.Read("while (true) {\nfunction f() {\ncontinue }}"), 3, api.ErrJump)
 	p := node(api.SBlock, "")
 	p.Line = 4
 	for i := range api.MaxVars + 1 {
 		p.L = append(p.L, node(api.SVar, fmt.Sprintf("a%d", i)))
 	}
 	refused(t, p, 4, api.ErrMany)
-	_, q, _, _ := scope.Resolve(program(t, "var a; var b; b"))
+	_, q, _, _ := scope.Resolve(samples.Read("var a; var b; b"))
 	refused(t, q, 0, api.ErrTree)
 }
 
@@ -150,7 +128,7 @@ func holds(t *testing.T, p api.Node) {
 	}
 	_, q, _, _ := scope.Resolve(p)
 	if want := spreads(q); !slices.Equal(sorted(got), want) {
-		t.Fatalf("%s: instructions %.300v, not %.300v", shown(p), got, want)
+		t.Fatalf("%s: instructions %.300v, not %.300v", samples.Shown(p), got, want)
 	}
 }
 
@@ -163,7 +141,7 @@ func seen(t *testing.T, p api.Node, funs []api.Fun, fun int, i api.Ins) {
 			return
 		}
 	}
-	t.Fatalf("%s: there is no variable %d", shown(p), i.N)
+	t.Fatalf("%s: there is no variable %d", samples.Shown(p), i.N)
 }
 
 // P10.1, P10.2: what instructions there are, and which variables they name: of what is never reached, too.
@@ -179,7 +157,7 @@ func TestInstructions(t *testing.T) {
 		"(function f(f) { f() })(); (function g(a) { var g; g() })(); (function h(h, a) { function a() { } })",
 		"function f() { } function f() { } function g(f, f) { function f() { } } new (new f())()",
 	} {
-		holds(t, program(t, s))
+		holds(t, samples.Read(s))
 	}
 }
 
@@ -207,7 +185,7 @@ func TestLines(t *testing.T) {
 		_, l := lowered(t, p)
 		for _, line := range []int{1, -9} {
 			if _, other := lowered(t, again(p, line)); !code.Same(l, other) {
-				t.Fatalf("%s: lines make a difference", shown(p))
+				t.Fatalf("%s: lines make a difference", samples.Shown(p))
 			}
 		}
 	}

@@ -8,6 +8,7 @@ import (
 	"gumshoe/code"
 	"gumshoe/jtree"
 	"gumshoe/lower"
+	"gumshoe/samples"
 )
 
 // roomy is a tree whose lists have spare room, with trees in it.
@@ -55,12 +56,12 @@ func TestProgramsAreLeft(t *testing.T) {
 		r := roomy(p)
 		funs, l := lowered(t, r)
 		if !jtree.Same(r, p) || !spared(r) {
-			t.Fatalf("%s was changed", shown(p))
+			t.Fatalf("%s was changed", samples.Shown(p))
 		}
 		was := fmt.Sprint(funs, l)
 		overwrite(r)
 		if fmt.Sprint(funs, l) != was {
-			t.Fatalf("%s: what was handed in is shared with the answer", shown(p))
+			t.Fatalf("%s: what was handed in is shared with the answer", samples.Shown(p))
 		}
 	}
 }
@@ -83,7 +84,7 @@ func TestAnswersShareNothing(t *testing.T) {
 			}
 		}
 		if fmt.Sprint(funs) != was || fmt.Sprint(l) != text {
-			t.Fatalf("%s: lists share spare room", shown(p))
+			t.Fatalf("%s: lists share spare room", samples.Shown(p))
 		}
 		apart(t, l)
 		for _, proc := range l {
@@ -96,7 +97,7 @@ func TestAnswersShareNothing(t *testing.T) {
 			fill(f.Vars, 0, "filled")
 		}
 		if again, other := lowered(t, p); fmt.Sprint(again) != was || fmt.Sprint(other) != text {
-			t.Fatalf("%s: answers share something", shown(p))
+			t.Fatalf("%s: answers share something", samples.Shown(p))
 		}
 	}
 }
@@ -120,28 +121,11 @@ func apart(t *testing.T, l []api.Proc) {
 // R1: what is no right program has an error, and no call panics.
 func TestWrongTrees(t *testing.T) {
 	for seed := range uint64(2000) {
-		m := maker{generator(15, seed)}
-		p := m.program()
-		n := &p
-		for range m.IntN(6) {
-			if len(n.L) > 0 {
-				n = &n.L[m.IntN(len(n.L))]
-			}
-		}
-		switch m.IntN(4) {
-		case 0:
-			n.Op = m.IntN(50) - 3
-		case 1:
-			n.N = m.Int64() - m.Int64()
-		case 2:
-			n.L = n.L[:m.IntN(len(n.L)+1)]
-		case 3:
-			n.S = pick(m, "", "x", "if", "+")
-		}
+		p := samples.Changed(generator(15, seed).IntN)
 		if !jtree.Right(p) {
 			refused(t, p, 0, api.ErrTree)
 		} else if funs, l, _, e := lower.Lower(p); e == api.OK && (len(funs) != len(l) || !code.Right(l)) {
-			t.Fatalf("%s: no right code", shown(p))
+			t.Fatalf("%s: no right code", samples.Shown(p))
 		}
 	}
 }

@@ -2,21 +2,22 @@ package walk
 
 import (
 	"gumshoe/api"
+	"gumshoe/runs"
 	"gumshoe/value"
 )
 
 // expr is the value of an expression.
 func (m *machine) expr(f *frame, x api.Node) api.Val {
-	m.step()
+	m.Step()
 	switch x.Op {
 	case api.XId:
-		return *f.variable(x.N)
+		return *f.Variable(x.N)
 	case api.XThis:
-		return f.this
+		return f.This
 	case api.XInput:
-		return m.read()
+		return m.Read()
 	case api.XFun:
-		return m.closure(f, int(x.N))
+		return m.Closure(f.Frame, x.N)
 	case api.XObj:
 		return m.literal(f, x)
 	case api.XMem, api.XIdx:
@@ -25,7 +26,7 @@ func (m *machine) expr(f *frame, x api.Node) api.Val {
 	case api.XSet:
 		return m.set(f, x)
 	case api.XBin:
-		return m.two(x.S, m.expr(f, x.L[0]), m.expr(f, x.L[1]))
+		return m.Two(x.S, m.expr(f, x.L[0]), m.expr(f, x.L[1]))
 	case api.XNot:
 		return value.Not(m.expr(f, x.L[0]))
 	case api.XNeg:
@@ -77,29 +78,11 @@ func constant(x api.Node) api.Val {
 	return v
 }
 
-// read is the next number of the input.
-func (m *machine) read() api.Val {
-	v := api.Val{Kind: api.VNum}
-	if len(m.input) > 0 {
-		v.N, m.input = m.input[0], m.input[1:]
-	}
-	return v
-}
-
-// two is what a sign makes of two values.
-func (m *machine) two(sign string, a api.Val, b api.Val) api.Val {
-	v, e := value.Two(sign, a, b)
-	if e != api.OK {
-		m.end(api.WFull)
-	}
-	return v
-}
-
 // literal is a new object, with what its pairs put.
 func (m *machine) literal(f *frame, x api.Node) api.Val {
-	v := m.alloc(api.Obj{Mark: int(x.N), Proto: api.PlaceObject})
+	v := m.Object(x.N)
 	for _, pair := range x.L {
-		m.put(v, pair.S, m.expr(f, pair.L[0]))
+		m.SetMember(v, pair.S, m.expr(f, pair.L[0]))
 	}
 	return v
 }
@@ -116,20 +99,7 @@ func (m *machine) spot(f *frame, x api.Node) (api.Val, string) {
 // member is the object of an XMem or XIdx, and what is got of it.
 func (m *machine) member(f *frame, x api.Node) (api.Val, api.Val) {
 	o, key := m.spot(f, x)
-	if o.Kind != api.VRef {
-		m.refuse()
-	}
-	v, _ := m.Get(int(o.N), key)
-	return o, v
-}
-
-// put puts a value at an object's key.
-func (m *machine) put(o api.Val, key string, v api.Val) {
-	if o.Kind != api.VRef {
-		m.refuse()
-	}
-	m.Put(int(o.N), key, v)
-	m.tell(api.Event{Kind: api.EPut, A: m.mark(o), S: key})
+	return o, m.Member(o, key)
 }
 
 // set puts a value into a variable, or at a key.
@@ -137,25 +107,34 @@ func (m *machine) set(f *frame, x api.Node) api.Val {
 	to, from := x.L[0], x.L[1]
 	if to.Op == api.XId {
 		v := m.expr(f, from)
-		*f.variable(to.N) = v
+		*f.Variable(to.N) = v
 		return v
 	}
 	o, key := m.spot(f, to)
 	v := m.expr(f, from)
-	m.put(o, key, v)
+	m.SetMember(o, key, v)
 	return v
 }
 
 // invoke is what a call gives.
 func (m *machine) invoke(f *frame, x api.Node) api.Val {
-	c := call{mark: int(x.N)}
+	c := runs.Call{Mark: x.N}
 	switch what := x.L[0]; what.Op {
 	case api.XMem, api.XIdx:
-		m.step()
-		c.this, c.what = m.member(f, what)
+		m.Step()
+		c.This, c.What = m.member(f, what)
 	default:
-		c.what = m.expr(f, what)
+		c.What = m.expr(f, what)
 	}
-	c.args = m.exprs(f, x.L[1:])
-	return m.call(f, c)
+	c.Args = m.exprs(f, x.L[1:])
+	return m.do(m.Call(f.Frame, c))
+}
+
+// construct is what a construction gives: what is returned, if it is an object, else the new one.
+func (m *machine) construct(f *frame, x api.Node) api.Val {
+	g := m.Construct(f.Frame, runs.Call{What: m.expr(f, x.L[0]), Args: m.exprs(f, x.L[1:]), Mark: x.N})
+	if v := m.do(g); v.Kind == api.VRef {
+		return v
+	}
+	return g.This
 }

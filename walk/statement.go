@@ -29,11 +29,11 @@ func (m *machine) statement(f *frame, s api.Node) ending {
 	if s.Op == api.SBlock {
 		return m.block(f, s)
 	}
-	m.step()
+	m.Step()
 	switch s.Op {
 	case api.SVar:
 		if len(s.L) > 0 {
-			*f.variable(s.N) = m.expr(f, s.L[0])
+			*f.Variable(s.N) = m.expr(f, s.L[0])
 		}
 	case api.SExpr:
 		m.expr(f, s.L[0])
@@ -49,7 +49,7 @@ func (m *machine) statement(f *frame, s api.Node) ending {
 		}
 		return returns
 	case api.SThrow:
-		m.throw(m.expr(f, s.L[0]))
+		m.Throw(m.expr(f, s.L[0]))
 	case api.STry:
 		return m.try(f, s)
 	case api.SBreak:
@@ -97,12 +97,8 @@ func (m *machine) whiles(f *frame, s api.Node) func(yield func() bool) {
 // keys are rounds, one for each key that there is as they begin.
 func (m *machine) keys(f *frame, s api.Node) func(yield func() bool) {
 	return func(yield func() bool) {
-		o := m.expr(f, s.L[0])
-		if o.Kind != api.VRef {
-			return
-		}
-		for _, key := range m.All(int(o.N)) {
-			*f.variable(s.N) = api.Val{Kind: api.VText, S: key}
+		for _, key := range m.KeysOf(m.expr(f, s.L[0])) {
+			*f.Variable(s.N) = api.Val{Kind: api.VText, S: key}
 			if !yield() {
 				return
 			}
@@ -112,10 +108,11 @@ func (m *machine) keys(f *frame, s api.Node) func(yield func() bool) {
 
 // try does a block, and another one, if something is thrown in the first one.
 func (m *machine) try(f *frame, s api.Node) ending {
-	e, v, threw := m.attempt(f, s.L[0])
+	var e ending
+	v, threw := m.Attempt(func() { e = m.block(f, s.L[0]) })
 	if !threw {
 		return e
 	}
-	*f.variable(s.N) = v
+	*f.Variable(s.N) = v
 	return m.block(f, s.L[1])
 }

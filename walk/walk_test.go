@@ -7,32 +7,17 @@ import (
 	"testing"
 
 	"gumshoe/api"
-	"gumshoe/jlex"
-	"gumshoe/jread"
+	"gumshoe/samples"
 	"gumshoe/walk"
 )
 
 // plenty are steps enough for what is tested with it.
 const plenty = 20000
 
-// program is a text's tree.
-func program(t *testing.T, text string) api.Node {
-	t.Helper()
-	l, line, e := jlex.Lex(text)
-	if e != api.OK {
-		t.Fatalf("%s: Lex tells %d at %d", text, e, line)
-	}
-	p, line, e := jread.Parse(l)
-	if e != api.OK {
-		t.Fatalf("%s: Parse tells %d at %d", text, e, line)
-	}
-	return p
-}
-
 // run runs a text that is to run.
 func run(t *testing.T, text string, fuel int, input ...int64) api.Outcome {
 	t.Helper()
-	o, line, e := walk.Run(program(t, text), input, fuel)
+	o, line, e := walk.Run(samples.Read(text), input, fuel)
 	if line != 0 || e != api.OK {
 		t.Fatalf("%s: Run tells %d at %d", text, e, line)
 	}
@@ -181,16 +166,16 @@ func TestErrors(t *testing.T) {
 		line int
 		e    api.Errno
 	}{
-		{program(t, ""), -1, 0, api.ErrArg},
-		{program(t, ""), api.MaxFuel + 1, 0, api.ErrArg},
-		{program(t, "\nbreak"), -1 << 63, 0, api.ErrArg},
+		{samples.Read(""), -1, 0, api.ErrArg},
+		{samples.Read(""), api.MaxFuel + 1, 0, api.ErrArg},
+		{samples.Read("\nbreak"), -1 << 63, 0, api.ErrArg},
 		{api.Node{}, 1<<63 - 1, 0, api.ErrArg},
 		{api.Node{}, 5, 0, api.ErrTree},
 		{api.Node{Op: api.XNull, Line: 7}, 5, 0, api.ErrTree},
 		{api.Node{Op: api.SBlock, N: 1}, 5, 0, api.ErrTree},
-		{program(t, "var a;\na;\nb"), 5, 3, api.ErrName},
-		{program(t, "var a;\n\nbreak"), 0, 3, api.ErrJump},
-		{program(t, "while (true) {\ncontinue }\nreturn"), api.MaxFuel, 3, api.ErrJump},
+		{samples.Read("var a;\na;\nb"), 5, 3, api.ErrName},
+		{samples.Read("var a;\n\nbreak"), 0, 3, api.ErrJump},
+		{samples.Read("while (true) {\ncontinue }\nreturn"), api.MaxFuel, 3, api.ErrJump},
 		{api.Node{Op: api.SBlock, L: manyVars(), Line: 4}, 9, 4, api.ErrMany},
 	} {
 		o, line, e := walk.Run(c.p, []int64{1}, c.fuel)
@@ -223,7 +208,7 @@ func TestFuel(t *testing.T) {
 // R3: what is handed in stays as it is, spare room too, and no answer hangs on another one.
 func TestMemory(t *testing.T) {
 	const s = "function f(a) { this.p = a; return function() { return input } } var x = new f({q: input}); var y = f.call(x, input); for (var k in x) { y[k] = x; } x.p.q()"
-	p, same := program(t, s), program(t, s)
+	p, same := samples.Read(s), samples.Read(s)
 	room := []int64{4, 5, 6, 7}
 	first, _, e := walk.Run(p, room[:2], plenty)
 	if e != api.OK || !slices.Equal(room, []int64{4, 5, 6, 7}) || fmt.Sprint(p) != fmt.Sprint(same) {
@@ -247,7 +232,7 @@ func TestMemory(t *testing.T) {
 
 // R3: nil and empty lists are one.
 func TestNoInput(t *testing.T) {
-	p := program(t, "var o = {}; o[input] = 1")
+	p := samples.Read("var o = {}; o[input] = 1")
 	a, _, _ := walk.Run(p, nil, plenty)
 	b, _, _ := walk.Run(p, []int64{}, plenty)
 	if fmt.Sprint(a) != fmt.Sprint(b) {

@@ -25,7 +25,13 @@ func layers() map[string]string {
 		"walk":  "range-function label defer recover type-switch map copy iota embedding promoted fallthrough",
 		"code":  "range-function label map variadic closure",
 		"lower": "range-function label variadic closure map method-value",
+		"step":  "range-function label map method-value embedding promoted defer recover",
 	}
+}
+
+// beside are the packages that are no layers, with what the layers that stand on them have in common.
+func beside() map[string][]string {
+	return map[string][]string{"walk": {"runs"}, "step": {"runs"}}
 }
 
 // source checks packages by their texts, each once: those of the project lie beside this one.
@@ -174,7 +180,7 @@ func (l looker) selected(x *ast.SelectorExpr) {
 	}
 }
 
-// The chapters' ways: the packages' texts have them.
+// The chapters' ways: the packages' texts have them, with those of the packages beside them.
 func TestWays(t *testing.T) {
 	s := newSource()
 	for layer, ways := range layers() {
@@ -182,8 +188,10 @@ func TestWays(t *testing.T) {
 			t.Fatal(err)
 		}
 		l := looker{s.info, map[string]bool{}, map[ast.Expr]bool{}}
-		for _, f := range s.texts[layer] {
-			ast.Inspect(f, l.look)
+		for _, p := range append(beside()[layer], layer) {
+			for _, f := range s.texts[p] {
+				ast.Inspect(f, l.look)
+			}
 		}
 		for _, way := range strings.Fields(ways) {
 			if !l.found[way] {

@@ -1,14 +1,21 @@
-package lower_test
+package step_test
 
 import (
 	"fmt"
+	"math/rand/v2"
 	"slices"
 	"strings"
 	"testing"
 
 	"gumshoe/api"
+	"gumshoe/jtree"
+	"gumshoe/lower"
+	"gumshoe/samples"
+	"gumshoe/step"
 	"gumshoe/walk"
 )
+
+func generator(kind uint64, seed uint64) *rand.Rand { return rand.New(rand.NewPCG(kind, seed)) }
 
 // enough are steps with which a code does what its program does with so many.
 func enough(steps int) int { return 2000 + 20*steps }
@@ -16,25 +23,81 @@ func enough(steps int) int { return 2000 + 20*steps }
 // alike holds a code's run against the program's: the same end and facts, unless the program had no steps left, and the same events, as far as they go.
 func alike(t *testing.T, p api.Node, input []int64, fuel int) api.Outcome {
 	t.Helper()
-	funs, l := lowered(t, p)
 	want, _, e := walk.Run(p, input, fuel)
 	if e != api.OK {
-		t.Fatalf("%s: %d", shown(p), e)
+		t.Fatalf("%s: %d", samples.Shown(p), e)
 	}
-	got := runCode(t, funs, l, input, enough(want.Steps))
+	got, line, e := step.Program(p, input, enough(want.Steps))
+	if line != 0 || e != api.OK {
+		t.Fatalf("%s: %d at %d", samples.Shown(p), e, line)
+	}
 	begun := got.Events
 	if want.How == api.WFuel {
 		begun = begun[:min(len(begun), len(want.Events))]
 	} else if got.How != want.How || got.V != want.V || !slices.Equal(got.Facts, want.Facts) {
-		t.Fatalf("%s: the code ends %d with %v, not %d with %v, with the facts\n%.2000v\nnot\n%.2000v", shown(p), got.How, got.V, want.How, want.V, got.Facts, want.Facts)
+		t.Fatalf("%s: the code ends %d with %v, not %d with %v, with the facts\n%.2000v\nnot\n%.2000v", samples.Shown(p), got.How, got.V, want.How, want.V, got.Facts, want.Facts)
 	}
 	if !slices.Equal(begun, want.Events) {
-		t.Fatalf("%s: of the code happens\n%.2000v\nnot\n%.2000v", shown(p), begun, want.Events)
+		t.Fatalf("%s: of the code happens\n%.2000v\nnot\n%.2000v", samples.Shown(p), begun, want.Events)
 	}
 	return want
 }
 
-// P10.1: what a code does is what its program does, kind by kind; what is said is told by keys that are put.
+// P11.2: what comes of programs, told without their run: those of the document's examples among them.
+func TestPrograms(t *testing.T) {
+	for s, want := range map[string]api.Val{
+		"throw 1 + 'a'":           text("1a"),
+		"null.p":                  text("TypeError"),
+		"throw input + input * 2": num(7 - 16),
+		"var n = 0; for (var k in {a: 1, b: 2}) n = n + k; throw n":                                        text("0ab"),
+		"function f(x, y) { return x + y } throw f.call(null, 1, 2) * f.apply(1, {length: 2, 0: 3, 1: 4})": num(21),
+		"function f(n) { if (n < 1) throw 'x'; f(n - 1) } try { f(3) } catch (e) { throw e + 1 }":          text("x1"),
+		"throw new (function () { this.a = 5 })().a":                                                       num(5),
+		"throw g; function g() { } var g":                                                                  ref(4),
+	} {
+		o, line, e := step.Program(samples.Read(s), []int64{7, -8}, plenty)
+		if line != 0 || e != api.OK || o.How != api.WThrow || o.V != want {
+			t.Errorf("%s: %d at %d, ends %d with %v", s, e, line, o.How, o.V)
+		}
+	}
+	o, _, _ := step.Program(samples.Read("function F() { this.p = {} } var x = new F()"), nil, plenty)
+	behaves(t, o, api.WEnd, undef, o.Steps, alloc(4), alloc(5), alloc(7), called(7, 4), entered(1), alloc(6), stored(7, "p"))
+	facts(t, o, []api.Fact{
+		{Kind: api.FVar, B: 4}, {Kind: api.FVar, A: 1, B: 7}, {Kind: api.FThis, A: 1, B: 7}, {Kind: api.FProp, A: 4, S: "prototype", B: 5}, {Kind: api.FProp, A: 7, S: "p", B: 6},
+		{Kind: api.FProto, A: 4, B: 1}, {Kind: api.FProto, A: 5}, {Kind: api.FProto, A: 6}, {Kind: api.FProto, A: 7, B: 5}, {Kind: api.FCall, A: 7, B: 4}, {Kind: api.FEnter, A: 1},
+	}...)
+	o, _, _ = step.Program(samples.Read("function f() { } f.call(null, 1, 2)"), nil, plenty)
+	behaves(t, o, api.WEnd, undef, o.Steps, alloc(4), alloc(5), called(6, 2), called(6, 4), entered(1))
+}
+
+// P11.2: a program's run is that of its functions and its code.
+func TestProgramsRun(t *testing.T) {
+	for seed := range uint64(300) {
+		r := generator(17, seed)
+		p, fuel := samples.Program(r.IntN), r.IntN(2000)
+		funs, l, _, _ := lower.Lower(p)
+		want, e := step.Run(funs, l, []int64{3}, fuel)
+		o, line, other := step.Program(p, []int64{3}, fuel)
+		if e != api.OK || other != api.OK || line != 0 || !same(o, want) {
+			t.Fatalf("%s: %d and %d at %d, ends %d behind %d steps, and %d behind %d", samples.Shown(p), e, other, line, want.How, want.Steps, o.How, o.Steps)
+		}
+	}
+}
+
+// R1: what is no right program has an error, and no call panics.
+func TestWrongTrees(t *testing.T) {
+	for seed := range uint64(2000) {
+		p := samples.Changed(generator(18, seed).IntN)
+		if o, line, e := step.Program(p, nil, 300); !jtree.Right(p) {
+			nothing(t, samples.Shown(p), o)
+			if line != 0 || e != api.ErrTree {
+				t.Fatalf("seed %d: %d at %d", seed, e, line)
+			}
+		}
+	}
+}
+
+// P11.3, P10.1: what a code does is what its program does, kind by kind; what is said is told by keys that are put.
 func TestLikeTheProgram(t *testing.T) {
 	const o = "var o = {}; function say(s) { o[s] = 0; return s } function no() { throw 'no' } "
 	for _, s := range []string{
@@ -71,12 +134,12 @@ func TestLikeTheProgram(t *testing.T) {
 		"while (1) { }", "while (1) { try { no() } catch (e) { } }",
 	} {
 		for n := range 3 {
-			alike(t, program(t, o+s), []int64{5, -7}[:n], 30000)
+			alike(t, samples.Read(o+s), []int64{5, -7}[:n], 30000)
 		}
 	}
 }
 
-// P10.1: what leaves a try's first block by break, continue or return leaves its handler behind: what is thrown then goes to those around, which are still there.
+// P11.3, P10.1: what leaves a try's first block by break, continue or return leaves its handler behind: what is thrown then goes to those around, which are still there.
 func TestLeavingTries(t *testing.T) {
 	const o = "var o = {}; function say(s) { o[s] = 0 } "
 	for _, leave := range []string{"break", "continue", "return 1", "throw 1", "null.p", "say('goes')", "if (n) { continue } else { break }"} {
@@ -93,20 +156,20 @@ func TestLeavingTries(t *testing.T) {
 			for _, loop := range []string{"while (n) { n = n - 1; say(n); B } ", "for (var k in {x: 1, y: 1, z: 1}) { n = n - 1; say(k); B } "} {
 				s := strings.Replace(loop, "B", strings.ReplaceAll(within, "L", leave), 1)
 				s = o + "function f() { var n = 3; var m = 2; try { " + s + " say('behind'); throw 'own' } catch (z) { say('z' + z) } throw 'last' } try { say(f()) } catch (y) { say('y' + y) } f()"
-				alike(t, program(t, s), nil, 30000)
+				alike(t, samples.Read(s), nil, 30000)
 			}
 		}
 	}
 }
 
-// P10.1: programs at random, with inputs and steps at random.
+// P11.3, P10.1: programs at random, with inputs and steps at random.
 func TestRandomRuns(t *testing.T) {
 	var ended [5]int
 	kinds := map[int]int{}
 	for seed := range uint64(3000) {
-		m := maker{generator(12, seed)}
-		p := m.program()
-		o := alike(t, p, []int64{m.Int64N(5), m.Int64N(5) - 2, m.Int64()}[:m.IntN(4)], pick(m, m.IntN(100), 500, 3000))
+		r := generator(12, seed)
+		p := samples.Program(r.IntN)
+		o := alike(t, p, []int64{r.Int64N(5), r.Int64N(5) - 2, r.Int64()}[:r.IntN(4)], []int{r.IntN(100), 500, 3000}[r.IntN(3)])
 		ended[o.How]++
 		for _, e := range o.Events {
 			kinds[e.Kind]++
