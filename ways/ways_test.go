@@ -26,6 +26,7 @@ func layers() map[string]string {
 		"code":  "range-function label map variadic closure",
 		"lower": "range-function label variadic closure map method-value",
 		"step":  "range-function label map method-value embedding promoted defer recover",
+		"rules": "range-function label variadic map method-value fallthrough",
 	}
 }
 
