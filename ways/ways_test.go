@@ -27,6 +27,7 @@ func layers() map[string]string {
 		"lower": "range-function label variadic closure map method-value",
 		"step":  "range-function label map method-value embedding promoted defer recover",
 		"rules": "range-function label variadic map method-value fallthrough",
+		"solve": "range-function label map embedding promoted variadic fallthrough",
 	}
 }
 
