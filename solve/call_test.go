@@ -4,6 +4,7 @@ import (
 	"testing"
 
 	"gumshoe/api"
+	"gumshoe/samples"
 )
 
 // P13.1: what calls hand over, give and throw.
@@ -20,7 +21,7 @@ func TestCalls(t *testing.T) {
 
 // P13.1: functions that have the same mark are called alike; the function 0 is not called, whatever its mark is.
 func TestMarksOfFunctions(t *testing.T) {
-	s := with("fun 0 1; obj 1 9; call 0 1 5 6 20 1; obj 2 8; call 2 -1 5 6 21; new 2 5 6 22")
+	s := samples.With("fun 0 1; obj 1 9; call 0 1 5 6 20 1; obj 2 8; call 2 -1 5 6 21; new 2 5 6 22")
 	s.Funs[0].Mark, s.Funs[2].Mark = 8, 4
 	if got := extra(t, s, 0, 1, 5, 6, 28, 29); got != "prop 4 prototype 5; behind 4 1; behind 5 0; behind 8 0; behind 9 0; call 20 4; enter 1; enter 2; in 0 4; in 1 9; in 28 9; in 29 9" {
 		t.Error(got)
@@ -29,7 +30,7 @@ func TestMarksOfFunctions(t *testing.T) {
 	if got := extra(t, s, 5, 25, 29); got != "prop 4 prototype 5; behind 4 1; behind 5 0; behind 8 0; behind 9 0; behind 22 0; behind 22 5; call 20 4; call 22 4; enter 1; enter 2; in 5 22; in 25 9; in 25 22; in 29 9; in 29 22" {
 		t.Error(got)
 	}
-	s = with("obj 0 4; call 0 -1 5 6 20") // the mark alone counts, wherever it comes from
+	s = samples.With("obj 0 4; call 0 -1 5 6 20") // the mark alone counts, wherever it comes from
 	if got := extra(t, s); got != "behind 4 0; call 20 4; enter 1; in 0 4" {
 		t.Error(got)
 	}
@@ -44,10 +45,10 @@ func TestConstructions(t *testing.T) {
 	behind := func(rules string, want string) {
 		t.Helper()
 		l := ""
-		s := with("fun 0 1; obj 1 9; new 0 5 6 20; " + rules)
-		for _, f := range minus(reference(s), reference(with("fun 0 1; obj 1 9; new 0 5 6 20"))) {
+		s := samples.With("fun 0 1; obj 1 9; new 0 5 6 20; " + rules)
+		for _, f := range minus(reference(s), reference(samples.With("fun 0 1; obj 1 9; new 0 5 6 20"))) {
 			if f.Kind == api.FProto {
-				l += told(f) + ";"
+				l += samples.Told(f) + ";"
 			}
 		}
 		if l != want {

@@ -6,12 +6,13 @@ import (
 	"testing"
 
 	"gumshoe/api"
+	"gumshoe/samples"
 	"gumshoe/solve"
 )
 
 // changed is base with a rule of each kind, changed; what was handed in before is left.
 func changed(change func(s *api.System)) api.System {
-	s := with("obj 0 9; fun 0 1; sub 0 1; load 0 p 1; loadx 0 1; store 0 p 1; any 0 1; call 0 1 2 3 9 4 5; new 0 1 2 9 3 4")
+	s := samples.With("obj 0 9; fun 0 1; sub 0 1; load 0 p 1; loadx 0 1; store 0 p 1; any 0 1; call 0 1 2 3 9 4 5; new 0 1 2 9 3 4")
 	change(&s)
 	return s
 }
@@ -163,15 +164,15 @@ func solved(t *testing.T, s api.System, limit int, want api.Errno) {
 func TestLimits(t *testing.T) {
 	wrong := api.System{Sets: 9}
 	for _, n := range []int{math.MinInt, -10000000, -1, 0, 10000001, math.MaxInt} {
-		solved(t, base(), n, api.ErrArg)
+		solved(t, samples.Base(), n, api.ErrArg)
 		solved(t, wrong, n, api.ErrArg)
 	}
 	for _, n := range []int{1, 5, 6, 7, 9999999, 10000000} {
 		solved(t, wrong, n, api.ErrRule)
 		if n < 6 {
-			solved(t, base(), n, api.ErrSteps)
+			solved(t, samples.Base(), n, api.ErrSteps)
 		} else {
-			solved(t, base(), n, api.OK)
+			solved(t, samples.Base(), n, api.OK)
 		}
 	}
 	for seed := range uint64(300) {

@@ -93,7 +93,7 @@ func TestManySets(t *testing.T) {
 		s.Rules = append(s.Rules, api.Rule{Kind: api.RObj, X: 99999, M: []int{4 + m, 1000000 - 20000*m}[m%2]})
 	}
 	l, e := solve.Solve(s, most)
-	if e != api.OK || len(l) != 6+49+49*100000 || !slices.IsSortedFunc(l, order) {
+	if e != api.OK || len(l) != 6+49+49*100000 || !slices.IsSortedFunc(l, samples.Order) {
 		t.Errorf("%d facts, %d", len(l), e)
 	}
 	solved(t, s, 6+49+49*100000-1, api.ErrSteps)
@@ -103,13 +103,13 @@ func TestManySets(t *testing.T) {
 // P13.1: sets that have more marks than a few, some of them late.
 func TestManyMarks(t *testing.T) {
 	for _, step := range []int{1, 63, 64, 65, 999} {
-		s := base()
+		s := samples.Base()
 		for m := range 1000 {
 			s.Rules = append(s.Rules, api.Rule{Kind: api.RObj, X: m % 7, M: 4 + m*step}, api.Rule{Kind: api.RSub, X: m % 7, Y: 8})
 		}
-		s.Rules = append(s.Rules, ruleOf("any 8 8"), ruleOf("sub 8 9"), ruleOf("load 0 p 10"), ruleOf("loadx 9 11"))
+		s.Rules = append(s.Rules, samples.Rule("any 8 8"), samples.Rule("sub 8 9"), samples.Rule("load 0 p 10"), samples.Rule("loadx 9 11"))
 		l, e := solve.Solve(s, most)
-		if e != api.OK || len(l) != 6+1000+1000000+5*1000 || !slices.IsSortedFunc(l, order) {
+		if e != api.OK || len(l) != 6+1000+1000000+5*1000 || !slices.IsSortedFunc(l, samples.Order) {
 			t.Errorf("%d: %d facts, %d", step, len(l), e)
 		}
 		for i := range l[1:] {

@@ -1,13 +1,12 @@
 package solve_test
 
 import (
-	"fmt"
 	"slices"
-	"strconv"
 	"strings"
 	"testing"
 
 	"gumshoe/api"
+	"gumshoe/samples"
 	"gumshoe/solve"
 )
 
@@ -43,70 +42,6 @@ func always() []api.Fact {
 		{Kind: api.FProto, A: 1}, {Kind: api.FProto, A: 2, B: 1}, {Kind: api.FProto, A: 3, B: 1}, {Kind: api.FEnter}}
 }
 
-// base is a system of the sets 0 to 19 and of three functions; the last nine sets are 32 to 40.
-func base() api.System {
-	return api.System{Sets: 41, Funs: []api.FunSets{
-		{This: 20, Ret: 21, Throw: 22},
-		{Mark: 4, Params: []int{23, 24}, This: 25, Ret: 26, Throw: 27},
-		{Mark: 6, Params: []int{28}, This: 29, Ret: 30, Throw: 31},
-	}}
-}
-
-// ruleOf reads a rule: `1:`, if it is that function's, its kind, its numbers and key, of calls the arguments behind them.
-func ruleOf(text string) api.Rule {
-	l := strings.Fields(text)
-	n := func(i int) int {
-		v, _ := strconv.Atoi(l[i])
-		return v
-	}
-	f := 0
-	if fun, ok := strings.CutSuffix(l[0], ":"); ok {
-		f, _ = strconv.Atoi(fun)
-		l = l[1:]
-	}
-	r := api.Rule{F: f, X: n(1)}
-	switch l[0] {
-	case "obj":
-		r.Kind, r.M = api.RObj, n(2)
-	case "fun":
-		r.Kind, r.N = api.RFun, n(2)
-	case "load", "store":
-		r.Kind, r.S, r.Y = map[string]int{"load": api.RLoad, "store": api.RStore}[l[0]], l[2], n(3)
-	case "sub", "loadx", "any":
-		r.Kind, r.Y = map[string]int{"sub": api.RSub, "loadx": api.RLoadX, "any": api.RAny}[l[0]], n(2)
-	case "call": // what, this, where what it gives and throws comes to, its mark
-		r.Kind, r.Z, r.Y, r.N, r.M = api.RCall, n(2), n(3), n(4), n(5)
-		for i := range l[6:] {
-			r.L = append(r.L, n(6+i))
-		}
-	case "new": // likewise, without a this
-		r.Kind, r.Y, r.N, r.M = api.RNew, n(2), n(3), n(4)
-		for i := range l[5:] {
-			r.L = append(r.L, n(5+i))
-		}
-	}
-	return r
-}
-
-// with is base with rules, parted by `; `.
-func with(text string) api.System {
-	s := base()
-	for rule := range strings.SplitSeq(text, "; ") {
-		s.Rules = append(s.Rules, ruleOf(rule))
-	}
-	return s
-}
-
-func told(f api.Fact) string {
-	switch f.Kind {
-	case api.FProp:
-		return fmt.Sprintf("prop %d %s %d", f.A, f.S, f.B)
-	case api.FEnter:
-		return fmt.Sprintf("enter %d", f.A)
-	}
-	return fmt.Sprintf("%s %d %d", map[int]string{api.FProto: "behind", api.FCall: "call", api.FAny: "any", api.FIn: "in"}[f.Kind], f.A, f.B)
-}
-
 // extra are the facts of a system, but those that are always there, and of FIn just those of some sets, if some are named.
 func extra(t *testing.T, s api.System, sets ...int) string {
 	t.Helper()
@@ -118,7 +53,7 @@ func extra(t *testing.T, s api.System, sets ...int) string {
 	var l []string
 	for _, f := range minus(got, always()) {
 		if f.Kind != api.FIn || len(sets) == 0 || slices.Contains(sets, f.A) {
-			l = append(l, told(f))
+			l = append(l, samples.Told(f))
 		}
 	}
 	return strings.Join(l, "; ")
@@ -127,7 +62,7 @@ func extra(t *testing.T, s api.System, sets ...int) string {
 // has asks for all facts of base with rules, but those that are always there.
 func has(t *testing.T, rules string, want string) {
 	t.Helper()
-	if got := extra(t, with(rules)); got != want {
+	if got := extra(t, samples.With(rules)); got != want {
 		t.Errorf("%s: it has\n%s, not\n%s", rules, got, want)
 	}
 }
@@ -136,7 +71,7 @@ func has(t *testing.T, rules string, want string) {
 func hasIn(t *testing.T, rules string, want string, sets ...int) {
 	t.Helper()
 	var l []string
-	for f := range strings.SplitSeq(extra(t, with(rules), sets...), "; ") {
+	for f := range strings.SplitSeq(extra(t, samples.With(rules), sets...), "; ") {
 		if strings.HasPrefix(f, "in ") {
 			l = append(l, f)
 		}
@@ -149,7 +84,7 @@ func hasIn(t *testing.T, rules string, want string, sets ...int) {
 // P13.1: what is always there, and the chapter's example.
 func TestAlways(t *testing.T) {
 	is(t, api.System{Sets: 9, Funs: []api.FunSets{{}}}, always())
-	is(t, base(), always())
+	is(t, samples.Base(), always())
 	has(t, "obj 0 4; sub 0 1", "behind 4 0; in 0 4; in 1 4")
 	if got := extra(t, ruled("var a = {}")); got != "behind 4 0; in 2 4; in 3 4" {
 		t.Error(got)
@@ -174,7 +109,7 @@ func TestKeys(t *testing.T) {
 	has(t, "obj 0 8; obj 1 9; store 0 p 1; any 1 0", "prop 8 p 9; behind 8 0; behind 9 0; any 9 8; in 0 8; in 1 9")
 	has(t, "obj 0 8; obj 0 9; store 0 p 0", "prop 8 p 8; prop 8 p 9; prop 9 p 8; prop 9 p 9; behind 8 0; behind 9 0; in 0 8; in 0 9")
 	has(t, "obj 0 8; store 1 p 0; store 0 p 1; any 0 1; any 1 0; load 0 p 2; load 1 p 2; loadx 1 2", "behind 8 0; in 0 8")
-	empty := with("obj 0 8; obj 1 9")
+	empty := samples.With("obj 0 8; obj 1 9")
 	empty.Rules = append(empty.Rules, api.Rule{Kind: api.RStore, X: 0, Y: 1}, api.Rule{Kind: api.RLoad, X: 0, Y: 2}, api.Rule{Kind: api.RLoad, X: 0, Y: 3, S: "p"})
 	if got := extra(t, empty); got != "prop 8  9; behind 8 0; behind 9 0; in 0 8; in 1 9; in 2 9" {
 		t.Error(got)

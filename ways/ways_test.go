@@ -28,6 +28,7 @@ func layers() map[string]string {
 		"step":  "range-function label map method-value embedding promoted defer recover",
 		"rules": "range-function label variadic map method-value fallthrough",
 		"solve": "range-function label map embedding promoted variadic fallthrough",
+		"least": "range-function label map closure variadic struct-compared",
 	}
 }
 
