@@ -29,6 +29,7 @@ func layers() map[string]string {
 		"rules": "range-function label variadic map method-value fallthrough",
 		"solve": "range-function label map embedding promoted variadic fallthrough",
 		"least": "range-function label map closure variadic struct-compared",
+		"graph": "range-function label map struct-compared three-index",
 	}
 }
 
@@ -136,6 +137,10 @@ func (l looker) look(n ast.Node) bool {
 		}
 	case *ast.RangeStmt:
 		l.ranged(n.X)
+	case *ast.SliceExpr:
+		if n.Slice3 {
+			l.found["three-index"] = true
+		}
 	case *ast.BinaryExpr:
 		if n.Op == token.EQL || n.Op == token.NEQ {
 			l.compared(n.X)
