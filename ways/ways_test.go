@@ -30,6 +30,7 @@ func layers() map[string]string {
 		"solve": "range-function label map embedding promoted variadic fallthrough",
 		"least": "range-function label map closure variadic struct-compared",
 		"graph": "range-function label map struct-compared three-index",
+		"alias": "range-function label map closure variadic",
 	}
 }
 
